@@ -1,0 +1,1 @@
+"""Needfill: functions that fill unknowns as they are looked at."""
