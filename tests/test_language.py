@@ -1,4 +1,4 @@
-"""The rules of LANGUAGE.md that can be seen in the syntax of the package's files, by their numbers."""
+"""Some rules of LANGUAGE.md that can be seen in the syntax of the package's files, by their numbers; not all of them."""
 
 import ast
 import builtins
