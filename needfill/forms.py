@@ -14,6 +14,7 @@ KEPT_WORDS = ("kind", "def", "either", "same", "truth")
 EVERY_HEAD = ("name", "made", "call", "either", "same", "skip")
 THING_HEADS = ("name", "made")
 PLAIN_HEADS = ("made",)
+UNFINISHED_HEADS = ("name", "made", "skip")
 
 
 def is_text_of(thing, signs, most):
@@ -91,6 +92,11 @@ def is_plain(thing):
     return is_saying_of(thing, PLAIN_HEADS)
 
 
+def is_unfinished(thing):
+    """Whether it is a saying of made, name and skip alone."""
+    return is_saying_of(thing, UNFINISHED_HEADS)
+
+
 def nodes_of(saying):
     """The nodes of a saying with their paths, each ahead of its parts."""
     nodes = []
@@ -135,4 +141,15 @@ def fitted(pattern, thing):
             waiting.extend(pairs[::-1])
         else:
             return None
+    return tuple(fills)
+
+
+def fitted_row(patterns, things):
+    """The fills by which as many patterns are the unfinished things, one by one, or None."""
+    fills = []
+    for pattern, thing in zip(patterns, things):
+        found = fitted(pattern, thing)
+        if found is None:
+            return None
+        fills.extend(found)
     return tuple(fills)

@@ -28,3 +28,11 @@ class Program:
 
     def __str__(self):
         return "".join([row + "\n" for row in program_rows(self.kinds, self.functions)])
+
+
+def rules_of(program, function):
+    """The rules of the function with that name; none where there is no such function."""
+    for word, dues, kind, rules in program.functions:
+        if word == function:
+            return rules
+    return ()

@@ -19,6 +19,11 @@ def is_row(thing, least, most):
     return isinstance(thing, tuple) and least <= len(thing) <= most
 
 
+def is_whole(thing):
+    """Whether it is a whole number; a truth is none."""
+    return isinstance(thing, int) and not isinstance(thing, bool)
+
+
 def is_sized(thing, depth):
     """Whether it is a saying without skips, not too large, with at most so many nodes within one another."""
     waiting = [(thing, 1)]

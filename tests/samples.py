@@ -1,6 +1,7 @@
 """What several tests use: short ways to write sayings, sample programs, and things that are nothing."""
 
 from needfill.errors import BadProgram
+from needfill.forms import nodes_of
 from needfill.programs import Program
 
 
@@ -44,6 +45,17 @@ def tower(height, word="next"):
     for step in range(height - 1):
         thing = made(word, thing)
     return thing
+
+
+def of_nodes(many):
+    """A saying of so many nodes, 38 to 45, 8 within one another at most, where tri is of three numbers to a number."""
+    full = call("tri", call("tri", NOUGHT, NOUGHT, NOUGHT), call("tri", NOUGHT, NOUGHT, NOUGHT), NOUGHT)
+    threes = call("tri", full, full, full)
+    # threes has 1 + 3 * 10 nodes; what is left goes into towers beside it.
+    left = many - 1 - 31
+    saying = call("tri", threes, tower(left - left // 2), tower(left // 2))
+    assert len(nodes_of(saying)) == many
+    return saying
 
 
 def nothings():

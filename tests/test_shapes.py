@@ -5,24 +5,13 @@ import unittest
 
 from needfill.forms import SKIP, nodes_of
 from tests.samples import (
-    A, B, FUNCTIONS, KINDS, LIST, NOUGHT, NUM, call, either, made, name, nothings, part_at, place_of, places_in,
-    put_at, same, tower,
+    A, B, FUNCTIONS, KINDS, LIST, NOUGHT, NUM, call, either, made, name, nothings, of_nodes, part_at, place_of,
+    places_in, put_at, same, tower,
 )
 
 WHOLE = (KINDS, FUNCTIONS)
 # "either" and "same" can stand for one another as the heads of sayings.
 FORMLESS = [thing for thing in nothings() if thing not in ("either", "same")]
-
-
-def of_nodes(many):
-    """A right saying of so many nodes, 5 within one another."""
-    full = call("tri", call("tri", NOUGHT, NOUGHT, NOUGHT), call("tri", NOUGHT, NOUGHT, NOUGHT), NOUGHT)
-    threes = call("tri", full, full, full)
-    # threes has 1 + 3 * 10 nodes; what is left goes into towers beside it.
-    left = many - 1 - 31
-    saying = call("tri", threes, tower(left - left // 2), tower(left // 2))
-    assert len(nodes_of(saying)) == many
-    return saying
 
 
 def tri(right):
@@ -151,6 +140,32 @@ class Counts(unittest.TestCase):
             for head in (made, call):
                 place = place_of(KINDS, tri(head("what", *[NOUGHT] * many)))
                 self.assertEqual(place, ("right", 1, 0, ()) if many <= 3 else (), many)
+
+
+def largest():
+    """A right program that stands at every bound of point 4 at once."""
+    kinds = tuple(
+        (f"kind{word}", tuple((f"maker{word}{other}", ("truth",) * at) for at, other in enumerate("abcd")))
+        for word in "abcd")
+    dues = ("kinda", "kindb", "truth")
+    left = (made("makerad", A, B, name("c")), name("d"), name("e"))
+    functions = tuple((f"f{word}", dues, "truth", ((left, A),) * 8) for word in "abcdef")
+    return kinds, functions
+
+
+class AllAtOnce(unittest.TestCase):
+    def test_at_every_bound(self):
+        self.assertIsNone(place_of(*largest()))
+
+    def test_one_beyond_one_of_them(self):
+        rows = [
+            ((0,), ("kinde", (("makere", ()),))), ((0, 3, 1), ("makere", ())), ((0, 3, 1, 3, 1), "truth"),
+            ((1,), ("fg", (), "truth", (((), made("yes")),))), ((1, 5, 1), "truth"),
+            ((1, 5, 3), largest()[1][5][3][0]), ((1, 5, 3, 7, 0, 0, 2), A),
+        ]
+        for path, more in rows:
+            row = part_at(largest(), path)
+            self.assertEqual(place_of(*put_at(largest(), path, (*row, more))), (), path)
 
 
 class Sizes(unittest.TestCase):

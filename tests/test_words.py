@@ -69,6 +69,11 @@ class Sayings(Told):
             self.assertIs(is_saying(name(str(number))), 1 <= number <= 999, number)
             self.assertIs(is_thing(name(str(number))), 1 <= number <= 999, number)
 
+    def test_every_sign_in_a_new_name(self):
+        for sign in [chr(code) for code in range(0x700)] + ["\uff11", "\ud800"]:
+            self.assertIs(is_saying(name("1" + sign)), sign in "0123456789", repr(sign))
+            self.assertIs(is_saying(name(sign + "1")), sign in "123456789", repr(sign))
+
     def test_heads(self):
         self.tells(made("nought"), True, True, True)
         self.tells(YES, True, True, True)
