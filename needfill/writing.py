@@ -3,11 +3,6 @@
 from needfill.forms import parts_of
 
 
-def saying_text(saying):
-    """The text of a saying."""
-    return applied_text(head_word(saying), parts_of(saying))
-
-
 def head_word(saying):
     """The word with which a saying's text begins."""
     return saying[0] if saying[0] in ("either", "same") else saying[1]
@@ -15,26 +10,31 @@ def head_word(saying):
 
 def applied_text(word, parts):
     """A word with the texts of its parts behind it."""
-    return " ".join([word] + [part_text(part) for part in parts])
+    words = [word]
+    for part in parts:
+        text = applied_text(head_word(part), parts_of(part))
+        words.append(f"({text})" if parts_of(part) else text)
+    return " ".join(words)
 
 
-def part_text(saying):
-    """The text of a saying as a part: in brackets where it has parts itself."""
-    text = saying_text(saying)
-    return f"({text})" if parts_of(saying) else text
+def written(saying):
+    """The text of a saying."""
+    return applied_text(head_word(saying), parts_of(saying))
 
 
 def kind_row(kind, makers):
     """The row of a kind."""
-    written = " | ".join([" ".join([maker, *parts]) for maker, parts in makers])
-    return f"kind {kind} = {written}"
+    rest = " | ".join([" ".join([maker, *parts]) for maker, parts in makers])
+    return f"kind {kind} = {rest}"
 
 
 def function_rows(function, dues, kind, rules):
     """The row of a function's def and those of its rules."""
     head = " ".join(["def", function, *dues])
-    written = [f"{applied_text(function, left)} = {saying_text(right)}" for left, right in rules]
-    return [f"{head} = {kind}"] + written
+    rows = [f"{head} = {kind}"]
+    for left, right in rules:
+        rows.append(f"{applied_text(function, left)} = {written(right)}")
+    return rows
 
 
 def program_rows(kinds, functions):
