@@ -1,7 +1,7 @@
 """All answers of an asking, when one stands, and what answers cover (points 19, 21 and 24 of DOC.md)."""
 
 from needfill.alike import made_alike
-from needfill.forms import filled, fitted, is_new_name, is_node, is_thing, names_of
+from needfill.forms import filled, fitted, is_node, is_thing, names_of
 from needfill.judge import comes_to, tree_turns
 from needfill.plain import TURNS
 from needfill.shapes import is_row, is_whole
@@ -58,13 +58,13 @@ def are_fills(program, names, thing):
 
 
 def is_thing_of(signs, kind, thing, known):
-    """Whether it is a thing of that kind; known holds the kinds of the new names so far, and gets those it has."""
+    """Whether it is a thing of that kind; known holds the kinds of the names so far, and gets those it has."""
     waiting = [(thing, kind)]
     while waiting:
         node, due = waiting.pop()
         if not is_node(node):
             return False
-        if node[0] == "name" and is_new_name(node[1]):
+        if node[0] == "name":
             if known.setdefault(node[1], due) != due:
                 return False
         elif node[0] == "made" and uses_sign(signs, node, due):

@@ -150,6 +150,33 @@ class Syntax(unittest.TestCase):
             there |= {alias.name for node in tree.body if isinstance(node, ast.ImportFrom) for alias in node.names}
             self.assertEqual(local_names(tree) & there, set(), file)
 
+    def test_l19_handlers_and_raises(self):
+        own = {node.name for file, node in nodes(ast.ClassDef)}
+        for file, node in nodes(ast.ExceptHandler):
+            for error in node.type.elts if isinstance(node.type, ast.Tuple) else [node.type]:
+                self.assertIn(error.id, own, (file, node.lineno))
+        for file, node in nodes(ast.Raise):
+            self.assertIsInstance(node.exc, ast.Call, (file, node.lineno))
+            self.assertIn(node.exc.func.id, own, (file, node.lineno))
+            self.assertIsNone(node.cause)
+
+    def test_l24_sets_are_counted_or_compared_at_once(self):
+        fine = set()
+        for file, node in nodes(ast.Call):
+            if isinstance(node.func, ast.Name) and node.func.id in ("len", "sorted"):
+                fine.update(node.args)
+        for file, node in nodes((ast.Set, ast.SetComp)):
+            self.assertIn(node, fine, (file, node.lineno))
+        for file, node in nodes(ast.Call):
+            if isinstance(node.func, ast.Name) and node.func.id in ("set", "frozenset"):
+                self.assertIn(node, fine, (file, node.lineno))
+
+    def test_l28_len(self):
+        for file, node in nodes(ast.FunctionDef):
+            if node.name == "__len__":
+                self.assertEqual([type(part) for part in node.body], [ast.Return])
+                self.assertEqual(node.body[0].value.func.id, "len")
+
     def test_l20_is(self):
         for file, node in nodes(ast.Compare):
             for sign, side in zip(node.ops, node.comparators):

@@ -79,6 +79,7 @@ class Stands(unittest.TestCase):
                 (("x", tower(2)), ("y", call("some"))), (("x", tower(2)), ("y", made("next"))), (("x", tower(2)), ()),
                 (("x", tower(2)), ("y", made("next", YES))), (("x", tower(2)),), (("x", tower(2)), ("y", new(1)), ()),
                 (("x", tower(2)), ("y", new(1)), ("z", NOUGHT)), (("x", tower(2)), ("y", new(1), AS)),
+                (("x",), ("y", new(1))), (("x", tower(2)), ("y",)), (("x", tower(2)), ("y", new(1000))),
                 (("y", new(1)), ("x", tower(2))), (), None, [("x", tower(2)), ("y", new(1))], {"x": tower(2)},
                 (["x", tower(2)], ("y", new(1))), (("x", list(tower(2))), ("y", new(1))), (("x", tower(2)), "y1")):
             self.stands(asking, (other, *rest), False)
